@@ -1,0 +1,1 @@
+"""Chalkcave: dark galleries charted by chalk marks."""
