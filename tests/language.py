@@ -142,8 +142,10 @@ def text_faults(name, text):
             told.append(("L14", name, at))
         if BARRED_WORDS.search(row):
             told.append(("L17", name, at))
+    # From Python 3.12 on the text of an f-string comes in tokens of its own.
+    kinds = (tokenize.STRING, getattr(tokenize, "FSTRING_MIDDLE", tokenize.STRING))
     for token in tokenize.generate_tokens(io.StringIO(text).readline):
-        if token.type == tokenize.STRING and ("%" in token.string or re.search(r"\\[^nt\\'\"]", token.string)):
+        if token.type in kinds and ("%" in token.string or re.search(r"\\[^nt\\'\"]", token.string)):
             told.append(("L27", name, token.start[0]))
     return told
 
@@ -271,6 +273,8 @@ def node_faults(tree, package):
         elif isinstance(node, ast.Raise):
             if node.cause is not None or called_name(node.exc) not in package.errors:
                 told.append(("L19", line))
+        elif isinstance(node, ast.FormattedValue):
+            told += [(rule, line) for rule in brace_faults(node)]
         elif isinstance(node, ast.Compare):
             told += [("L20", line) for rule in is_faults(node)]
         elif isinstance(node, ast.Call):
@@ -279,6 +283,15 @@ def node_faults(tree, package):
             if isinstance(node.ctx, ast.Load) and node.attr not in package.stored | package.methods | set(METHODS):
                 told.append(("L18", line))
     return told
+
+
+def brace_faults(node):
+    """The faults of one pair of braces in an f-string; no string is let in there."""
+    if node.format_spec is not None:
+        yield "L7"
+    for part in ast.walk(node.value):
+        if isinstance(part, ast.JoinedStr) or (isinstance(part, ast.Constant) and isinstance(part.value, str)):
+            yield "L27"
 
 
 def is_faults(node):

@@ -76,6 +76,10 @@ BROKEN = [
     ("L26", "class A:\n    def decode(self):\n        return 1\n"),
     ("L27", "ONE = 'a%b'\n"),
     ("L27", "ONE = '\\r'\n"),
+    ("L27", "def f(a):\n    return f'{a}%'\n"),
+    ("L27", "def f(a):\n    return f'{a}\\r'\n"),
+    ("L27", "def f(a):\n    return f'{a[\"b\"]}'\n"),
+    ("L7", "def f(a):\n    return f'{a:3}'\n"),
     ("L28", "class A:\n    def __init__(self):\n        return None\n"),
     ("L28", "class A:\n    def __lt__(self, other):\n        return True\n"),
 ]
