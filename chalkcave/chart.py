@@ -36,7 +36,7 @@ class Chart:
     def step(self, chamber, letter):
         """The chamber to which the letter leads, or None; NoChamber, then NoKind."""
         self.check_chamber(chamber)
-        self.check_letter(letter)
+        check_letters(self.kinds, [letter])
         if letter > 0:
             return self.onward[letter - 1][chamber]
         return self.inward[-letter - 1][chamber]
@@ -44,8 +44,7 @@ class Chart:
     def trace(self, chamber, way):
         """The chamber in which the way ends, or None; NoChamber, then NoKind."""
         self.check_chamber(chamber)
-        for letter in way:
-            self.check_letter(letter)
+        check_letters(self.kinds, way)
         here = chamber
         for letter in cancelled(way):
             here = self.step(here, letter)
@@ -58,9 +57,11 @@ class Chart:
         if chamber < 0 or chamber >= self.size():
             raise NoChamber("no such chamber")
 
-    def check_letter(self, letter):
-        """NoKind where the letter is nought or beyond the kinds."""
-        if letter == 0 or abs(letter) > self.kinds:
+
+def check_letters(kinds, way):
+    """NoKind where a letter of the way, as it stands, is nought or beyond the kinds."""
+    for letter in way:
+        if letter == 0 or abs(letter) > kinds:
             raise NoKind("a letter of no kind")
 
 

@@ -6,6 +6,7 @@ from chalkcave.errors import NoChart
 HEAD = "chart"
 UNKNOWN = "-"
 FIGURES = "0123456789"
+# No number of a chart has more.
 MOST_FIGURES = 3
 
 
@@ -50,12 +51,20 @@ def read_end(word):
 
 def read_number(word):
     """The number that a word writes; NoChart."""
-    # No number of a chart has more figures, and Python itself won't read a word of very many.
-    if word == "" or len(word) > MOST_FIGURES:
-        raise NoChart("a word without figures or with too many")
+    number = number_of(word, MOST_FIGURES)
+    if number is None:
+        raise NoChart("a word that writes no number")
+    return number
+
+
+def number_of(word, most):
+    """The number that a word writes in at most so many figures without a needless nought, or None."""
+    # The length is looked at ahead, for Python itself won't read a word of very many figures.
+    if word == "" or len(word) > most:
+        return None
     for sign in word:
         if sign not in FIGURES:
-            raise NoChart("a sign that is no figure")
+            return None
     if word[0] == "0" and word != "0":
-        raise NoChart("a needless nought")
+        return None
     return int(word)

@@ -1,7 +1,8 @@
 """A check of the package against LANGUAGE.md.
 
 It is narrower than the rules where that makes a rule easy to check: what the package doesn't use so far (sets,
-lambdas, try, with, match, stars, generators, decorators, annotations, keywords ..) is not let in at all.
+lambdas, with, match, stars, generators, decorators, annotations, keywords ..) is not let in at all, and a try only
+with handlers that name one own refusal each.
 `faults(files)` takes a dict of file names and texts and tells a list of tuples (rule, file, line).
 """
 
@@ -16,7 +17,8 @@ PACKAGE = "chalkcave"
 NODES = (
     ast.Module, ast.ImportFrom, ast.alias, ast.FunctionDef, ast.arguments, ast.arg, ast.ClassDef,
     ast.Assign, ast.AugAssign, ast.If, ast.While, ast.For, ast.Return, ast.Break, ast.Continue, ast.Pass,
-    ast.Raise, ast.Expr, ast.Name, ast.Constant, ast.Attribute, ast.Subscript, ast.Slice, ast.Call,
+    ast.Raise, ast.Try, ast.ExceptHandler, ast.Expr, ast.Name, ast.Constant, ast.Attribute, ast.Subscript,
+    ast.Slice, ast.Call,
     ast.List, ast.Tuple, ast.Dict, ast.ListComp, ast.DictComp, ast.comprehension, ast.IfExp,
     ast.BoolOp, ast.And, ast.Or, ast.UnaryOp, ast.Not, ast.USub, ast.Compare, ast.Eq, ast.NotEq, ast.Lt, ast.LtE,
     ast.Gt, ast.GtE, ast.Is, ast.IsNot, ast.In, ast.NotIn, ast.BinOp, ast.Add, ast.Sub, ast.Mult, ast.FloorDiv,
@@ -162,14 +164,44 @@ def import_rings(trees):
     return [name for name in ahead if name in ahead[name]]
 
 
-def plain_value(node):
+def plain_value(node, functions=()):
+    """True for a plain value, and for one that is made of plain values and these functions."""
     if isinstance(node, (ast.List, ast.Tuple)):
-        return all(plain_value(part) for part in node.elts)
+        return all(plain_value(part, functions) for part in node.elts)
     if isinstance(node, ast.UnaryOp):
         return isinstance(node.op, ast.USub) and isinstance(node.operand, ast.Constant)
     if isinstance(node, ast.Dict):
-        return all(plain_value(part) for part in node.keys + node.values if part is not None)
-    return isinstance(node, ast.Constant)
+        return all(plain_value(part, functions) for part in node.keys + node.values if part is not None)
+    return isinstance(node, ast.Constant) or (isinstance(node, ast.Name) and node.id in functions)
+
+
+def table_faults(tree):
+    """The faults of lists and dicts at module level: one inside another, and a use that may change or pass one on."""
+    told = []
+    tables = []
+    for node in tree.body:
+        if isinstance(node, ast.Assign) and isinstance(node.value, (ast.List, ast.Dict)):
+            tables += [part.id for part in node.targets if isinstance(part, ast.Name)]
+            inside = [part for part in ast.walk(node.value) if part is not node.value]
+            told += [("L15", node.lineno) for part in inside if isinstance(part, (ast.List, ast.Dict))]
+    read = [part for node in ast.walk(tree) for part in table_reads(node)]
+    for node in ast.walk(tree):
+        if isinstance(node, ast.Name) and isinstance(node.ctx, ast.Load) and node.id in tables and node not in read:
+            told.append(("L15", node.lineno))
+    return told
+
+
+def table_reads(node):
+    """The parts of a node in which a list or dict is only read."""
+    if isinstance(node, ast.Subscript) and isinstance(node.ctx, ast.Load):
+        return [node.value]
+    if isinstance(node, ast.Attribute) and node.attr in ("get", "items", "keys", "values", "index", "count"):
+        return [node.value]
+    if isinstance(node, ast.Compare):
+        return node.comparators
+    if isinstance(node, (ast.For, ast.comprehension)):
+        return [node.iter]
+    return node.args if called_name(node) in TAKERS + ("len",) else []
 
 
 def is_text(node):
@@ -177,20 +209,25 @@ def is_text(node):
 
 
 def module_faults(tree, package):
-    told = []
+    told = table_faults(tree)
     bound = []
+    functions = []
     last_import = max([0] + [at for at, node in enumerate(tree.body) if isinstance(node, ast.ImportFrom)])
     for at, node in enumerate(tree.body):
         if isinstance(node, ast.ImportFrom):
             told += import_faults(node, package)
             bound += [part.name for part in node.names]
         elif isinstance(node, ast.Assign):
-            if len(node.targets) != 1 or not isinstance(node.targets[0], ast.Name) or not plain_value(node.value):
+            single = len(node.targets) == 1 and isinstance(node.targets[0], ast.Name)
+            # A function stands in a table only, never under a second name.
+            if not single or isinstance(node.value, ast.Name) or not plain_value(node.value, functions):
                 told.append(("L3", node.lineno))
             else:
                 bound.append(node.targets[0].id)
         elif isinstance(node, (ast.FunctionDef, ast.ClassDef)):
             bound.append(node.name)
+            if isinstance(node, ast.FunctionDef):
+                functions.append(node.name)
         elif not (at == 0 and is_text(node)):
             told.append(("L2" if isinstance(node, ast.Import) else "L3", node.lineno))
         if at < last_import and not isinstance(node, ast.ImportFrom) and at > 0:
@@ -273,6 +310,8 @@ def node_faults(tree, package):
         elif isinstance(node, ast.Raise):
             if node.cause is not None or called_name(node.exc) not in package.errors:
                 told.append(("L19", line))
+        elif isinstance(node, ast.Try):
+            told += [(rule, line) for rule in try_faults(node, package)]
         elif isinstance(node, ast.FormattedValue):
             told += [(rule, line) for rule in brace_faults(node)]
         elif isinstance(node, ast.Compare):
@@ -283,6 +322,16 @@ def node_faults(tree, package):
             if isinstance(node.ctx, ast.Load) and node.attr not in package.stored | package.methods | set(METHODS):
                 told.append(("L18", line))
     return told
+
+
+def try_faults(node, package):
+    """The faults of a try: each handler names one own refusal, and there is nothing else but handlers."""
+    if node.finalbody or node.orelse:
+        yield "L6"
+    for handler in node.handlers:
+        own = isinstance(handler.type, ast.Name) and handler.type.id in package.errors & set(package.classes)
+        if not own or handler.name is not None:
+            yield "L19"
 
 
 def brace_faults(node):
